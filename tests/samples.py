@@ -3,6 +3,8 @@
 import copy
 import itertools
 
+from twonamed.holding import holds
+
 FLAT_FORMS = (
     "yes", "no",
     ("a", "x"), ("a", "y"), ("b", "x"), ("b", "y"),
@@ -35,6 +37,17 @@ def wrapped(core, wrap, times):
     return core
 
 
+# Ways to make a form one deeper.
+DEEPENING = (
+    lambda form: ("not", form),
+    lambda form: ("both", form, "yes"),
+    lambda form: ("both", ("a", "x"), form),
+    lambda form: ("either", form, ("to", "x", "y")),
+    lambda form: ("either", "no", form),
+    lambda form: ("both", form, form),
+    lambda form: ("either", form, form),
+)
+
 # Ways to wrap a thing once more, lists and odd ones too.
 WRAPS = (
     lambda thing: (thing,),
@@ -64,6 +77,9 @@ BUSHY_WRAPS = (
     lambda thing: (2, (), (), (thing, thing)),
 )
 
+SOME_WORLD = (3, (0, 2), (1,), ((0, 0), (0, 1), (2, 0)))
+STARTS = (("each", "each"), ("each", "some"), ("some", "each"), ("some", "some"))
+
 DEEP_CORES = ("yes", ("a", "x"), 0, True, None, [], ())
 
 
@@ -89,18 +105,107 @@ def too_few_or_many(thing, extra):
     return [thing[:-1], thing[1:], thing + (extra,), (extra,) + thing, thing + thing]
 
 
+def choices(parts):
+    """All ways to take some of the parts, in their order."""
+    return [found for many in range(len(parts) + 1) for found in itertools.combinations(parts, many)]
+
+
+def all_worlds(many):
+    marks = choices(range(many))
+    arrows = choices(list(itertools.product(range(many), repeat=2)))
+    return list(itertools.product([many], marks, marks, arrows))
+
+
+def full_world(many):
+    everything = tuple(range(many))
+    return (many, everything, everything, tuple(itertools.product(everything, everything)))
+
+
+class Chooser:
+    """Chooses here and there, but the same in each run."""
+
+    def __init__(self, seed):
+        self.state = seed
+
+    def below(self, bound):
+        self.state = (self.state * 6364136223846793005 + 1442695040888963407) % 2 ** 64
+        return (self.state >> 33) % bound
+
+    def one_of(self, parts):
+        return parts[self.below(len(parts))]
+
+    def some_of(self, parts):
+        return tuple([part for part in parts if self.below(2)])
+
+    def form(self, depth):
+        """A form that is just so deep."""
+        if depth == 0:
+            return self.one_of(FLAT_FORMS)
+        deep, less_deep = self.form(depth - 1), self.form(self.below(min(depth, 3)))
+        return self.one_of((("not", deep), ("both", deep, less_deep), ("both", less_deep, deep),
+                            ("either", deep, less_deep), ("either", less_deep, deep)))
+
+    def demand(self, depth):
+        return self.one_of(STARTS) + (self.form(depth),)
+
+    def row(self, many, deepest):
+        return tuple([self.demand(self.below(deepest + 1)) for _ in range(many)])
+
+    def world(self, many):
+        pairs = list(itertools.product(range(many), repeat=2))
+        return (many, self.some_of(range(many)), self.some_of(range(many)), self.some_of(pairs))
+
+    def order(self, many):
+        left = list(range(many))
+        return tuple([left.pop(self.below(len(left))) for _ in range(many)])
+
+
+def pairs_where(form, world):
+    """All pairs of things for x and y with which the form holds, by sets in the place of truths."""
+    many, marked_a, marked_b, arrows = world
+    every = set(itertools.product(range(many), repeat=2))
+    if form in ("yes", "no"):
+        return every if form == "yes" else set()
+    if form[0] == "not":
+        return every - pairs_where(form[1], world)
+    if form[0] == "both":
+        return pairs_where(form[1], world) & pairs_where(form[2], world)
+    if form[0] == "either":
+        return pairs_where(form[1], world) | pairs_where(form[2], world)
+    places = ["xy".index(name) for name in form[1:]]
+    if form[0] == "to":
+        return set([pair for pair in every if (pair[places[0]], pair[places[1]]) in arrows])
+    marked = {"a": marked_a, "b": marked_b}[form[0]]
+    return set([pair for pair in every if pair[places[0]] in marked])
+
+
+def is_kept(demand, world):
+    """Whether the demand holds, by counting the pairs with which its form does."""
+    many = world[0]
+    pairs = pairs_where(demand[2], world)
+    counts = [len([pair for pair in pairs if pair[0] == x]) for x in range(many)]
+    least = {"each": many, "some": 1}
+    return len([count for count in counts if count >= least[demand[1]]]) >= least[demand[0]]
+
+
 class Asking:
     """Asked twice, a function tells the same, and leaves what it was handed as it was."""
 
-    def tell(self, function, thing):
-        before = copy.deepcopy(thing)
-        told = function(thing)
-        self.assertEqual(repr(thing), repr(before))
-        again = function(thing)
+    def tell(self, function, *things):
+        before = copy.deepcopy(things)
+        told = function(*things)
+        self.assertEqual(repr(things), repr(before))
+        again = function(*things)
         self.assertEqual(repr(again), repr(told))
-        self.assertEqual(repr(thing), repr(before))
-        self.assertEqual(repr(function(before)), repr(told))
+        self.assertEqual(repr(things), repr(before))
+        self.assertEqual(repr(function(*before)), repr(told))
         return told
+
+    def tells(self, expected, function, *things):
+        """By its writing too, for which True is not 1."""
+        told = self.tell(function, *things)
+        self.assertEqual(told, expected, things)
+        self.assertEqual(repr(told), repr(expected), things)
 
     def is_told(self, function, truth, things):
         for thing in things:
@@ -110,3 +215,19 @@ class Asking:
         self.is_told(function, False, deep_things(WRAPS))
         for thing in deep_things(BUSHY_WRAPS):
             self.assertIs(function(thing), False)
+
+
+class Keeping:
+    """Rows hold in a changed world just if they do in the world."""
+
+    def keeps_what_holds(self, change, worlds):
+        chooser = Chooser(15)
+        truths = []
+        for world in worlds:
+            changed = change(world)
+            for many in range(6):
+                row = chooser.row(many, 4)
+                truths.append(holds(row, world))
+                self.assertIs(holds(row, changed), truths[-1], (row, world))
+        self.assertGreater(truths.count(True), 50)
+        self.assertGreater(truths.count(False), 50)

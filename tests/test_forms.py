@@ -3,19 +3,9 @@
 import itertools
 import unittest
 
-from samples import (Asking, FLAT_FORMS, ODD_THINGS, forms_one_deep, too_few_or_many, with_list_at_each_level,
-                     wrapped)
+from samples import (Asking, DEEPENING, FLAT_FORMS, ODD_THINGS, forms_one_deep, too_few_or_many,
+                     with_list_at_each_level, wrapped)
 from twonamed.things import is_form
-
-DEEPENING = (
-    lambda form: ("not", form),
-    lambda form: ("both", form, "yes"),
-    lambda form: ("both", ("a", "x"), form),
-    lambda form: ("either", form, ("to", "x", "y")),
-    lambda form: ("either", "no", form),
-    lambda form: ("both", form, form),
-    lambda form: ("either", form, form),
-)
 
 
 class Forms(Asking, unittest.TestCase):

@@ -3,12 +3,10 @@
 import itertools
 import unittest
 
-from samples import (Asking, FLAT_FORMS, ODD_THINGS, forms_one_deep, swapped_part, too_few_or_many,
+from samples import (Asking, FLAT_FORMS, ODD_THINGS, STARTS, forms_one_deep, swapped_part, too_few_or_many,
                      with_list_at_each_level, wrapped)
 from twonamed.things import is_row
 
-WORDS = ("each", "some")
-STARTS = tuple(itertools.product(WORDS, WORDS))
 MARK = ("some", "each", ("to", "x", "y"))
 PLAIN = ("each", "some", ("both", ("a", "x"), ("not", ("to", "y", "x"))))
 

@@ -3,27 +3,9 @@
 import itertools
 import unittest
 
-from samples import Asking, ODD_THINGS, swapped_part, too_few_or_many, with_list_at_each_level
+from samples import (Asking, ODD_THINGS, SOME_WORLD, all_worlds, full_world, swapped_part, too_few_or_many,
+                     with_list_at_each_level)
 from twonamed.things import is_world
-
-
-def choices(parts):
-    """All ways to take some of the parts, in their order."""
-    return [found for many in range(len(parts) + 1) for found in itertools.combinations(parts, many)]
-
-
-def all_worlds(many):
-    marks = choices(range(many))
-    arrows = choices(list(itertools.product(range(many), repeat=2)))
-    return list(itertools.product([many], marks, marks, arrows))
-
-
-def full_world(many):
-    everything = tuple(range(many))
-    return (many, everything, everything, tuple(itertools.product(everything, everything)))
-
-
-SOME_WORLD = (3, (0, 2), (1,), ((0, 0), (0, 1), (2, 0)))
 
 
 class Worlds(Asking, unittest.TestCase):
