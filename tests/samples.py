@@ -80,6 +80,55 @@ BUSHY_WRAPS = (
 SOME_WORLD = (3, (0, 2), (1,), ((0, 0), (0, 1), (2, 0)))
 STARTS = (("each", "each"), ("each", "some"), ("some", "each"), ("some", "some"))
 
+# For each and each: x and y are marked alike.
+AGREE_ON_A = "each each either both ax ay both not ax not ay"
+
+# No two arrows go there and back, and none to the thing where it begins.
+ONE_WAY = "each each not both xy yx"
+
+ROWS_WITHOUT_A_WORLD = (
+    "each each no",
+    "some some no",
+    "some each no",
+    "each some no",
+    "each each ax ; some some not ax",
+    "each each xy ; some some not yx",
+    "each each xy ; each each not xx",
+    "each each not xx ; some each xy",
+    "each each not ax ; some each ax ; some some yes",
+    "each each not xy ; each some xy",
+    "each some both ax not ay",
+    "each some both not ax ay ; some some not ax",
+    "each some both xy not yy ; each each either not xy xx",
+    "some each xy ; some each not yx",
+    "some each ay ; some each not ax",
+    "some each both ax xy ; some each both not ax not yx",
+    "some each both ax ay ; some some not ay",
+    "some each xy ; each each not both xy yx",
+    AGREE_ON_A + " ; some some ax ; some some not ax",
+    AGREE_ON_A + " ; some each ax ; some each not ax",
+    AGREE_ON_A + " ; each some both ax not ay",
+    AGREE_ON_A + " ; each some either both ax bx both not ax not bx ; some some both ax not bx",
+)
+
+ROWS_WITH_A_WORLD = (
+    "-",
+    "each each yes",
+    "each each ax",
+    "some each xy",
+    "each some xy",
+    "some some xy",
+    "some each both ax xy ; some some not ay",
+    "some some both ax not ay",
+    "some some both xy not yx",
+    "each some either both ax not ay both not ax ay",
+    "some each xy ; some each yx ; some some not xx",
+    "each each either xy yx ; some some not xy",
+    AGREE_ON_A + " ; some some ax ; some some bx ; some some not bx",
+    ONE_WAY + " ; each some xy",
+    ONE_WAY + " ; each some xy ; some some both ax not ay ; some some both bx xy",
+)
+
 DEEP_CORES = ("yes", ("a", "x"), 0, True, None, [], ())
 
 
@@ -150,6 +199,13 @@ class Chooser:
 
     def row(self, many, deepest):
         return tuple([self.demand(self.below(deepest + 1)) for _ in range(many)])
+
+    def row_with_marks(self, marks, others, deepest):
+        """A row with just so many demands that begin with some and then each, and so many others."""
+        starts = [("some", "each")] * marks
+        starts += [self.one_of((("each", "each"), ("each", "some"), ("some", "some"))) for _ in range(others)]
+        order = self.order(marks + others)
+        return tuple([starts[n] + (self.form(self.below(deepest + 1)),) for n in order])
 
     def world(self, many):
         pairs = list(itertools.product(range(many), repeat=2))

@@ -9,7 +9,10 @@ NAMES = ("x", "y")
 DEEPEST_FORM = 5
 
 DEMAND_WORDS = ("each", "some")
+RULE_START = ("each", "each")
+NEED_START = ("each", "some")
 MARK_START = ("some", "each")
+WANT_START = ("some", "some")
 MOST_DEMANDS = 4
 MOST_MARKS = 2
 
