@@ -1,7 +1,6 @@
 """A world in which a row of demands holds, or a paper that there is none."""
 
-from twonamed.kinds import OWN_SETTINGS, SEEN_FROM_BEHIND, Asked, all_settings, holds_alone, links_where
-from twonamed.kinds import numbers_beginning
+from twonamed.kinds import OWN_SETTINGS, SEEN_FROM_BEHIND, Asked, all_settings, links_where, numbers_beginning
 from twonamed.making import world_of_kinds
 from twonamed.things import MARK_START, NEED_START, WANT_START, is_tuple_of, is_whole
 
@@ -50,15 +49,14 @@ class Board:
             found.append([ahead[one][owns[other]] & SEEN_FROM_BEHIND[ahead[other][own]] for other in range(len(owns))])
         return found
 
-    # For each kind those that serve it; itself too, if it is alone enough.
+    # For each kind those that serve it. A kind that is alone enough serves itself: two things of it can be linked
+    # there and back as each of them is to itself, and then what holds for one thing holds for both.
     def all_servers(self, n):
-        truths = self.asked.truths[n]
         found = []
         for one, kind in enumerate(self.kinds):
-            ahead = links_ahead(truths, kind)
+            ahead = links_ahead(self.asked.truths[n], kind)
             choices = [self.links[one][other] & ahead[y[:OWN_SETTINGS]] for other, y in enumerate(self.kinds)]
-            own = int(holds_alone(truths, kind)) << one
-            found.append(group_of([choice != 0 for choice in choices]) | own)
+            found.append(group_of([choice != 0 for choice in choices]))
         return found
 
     def all_marked(self, place):
